@@ -1,0 +1,1 @@
+"""Ringgates: rings of trust, gates between them, and holes."""
