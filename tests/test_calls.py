@@ -131,10 +131,11 @@ class Deep(unittest.TestCase):
         self.assertEqual(self.chain(8, last=("call", 2))[1], fault("pointer"))
         self.assertEqual(self.chain(8, last=("call", 0))[1], fault("deep"))
 
-    def test_gate_and_call_go_ahead_of_deep(self):
+    def test_run_gate_and_call_go_ahead_of_deep(self):
         rows = (("zero", 4), ("add", -1), ("call", 0), RETURN, ("call", 1))
-        for cause, brackets in (("gate", (0, 1, 7)), ("call", (0, 1, 3)), ("deep", (0, 4, 7))):
-            machine = Machine([seg((0, 7, 7), "x", 0, (), rows), seg(brackets, "x", 0, (), [RETURN])])
+        cases = [("run", (0, 4, 7), "rw"), ("gate", (0, 1, 7), "x"), ("call", (0, 1, 3), "x"), ("deep", (0, 4, 7), "x")]
+        for cause, brackets, rights in cases:
+            machine = Machine([seg((0, 7, 7), "x", 0, (), rows), seg(brackets, rights, 0, (), [RETURN])])
             stand = stand_of(machine, 4, 7, [(4, 0, 0), (4, 1, 0)])
             self.assertEqual(done(machine, stand, ("call", 0))[1], fault(cause))
 
