@@ -15,10 +15,16 @@ def first(machine, ring):
     return (ring, 0, (None,) * POINTERS, memory)
 
 
+def refuse_faulty(machine, deeds):
+    """Refuse the first of the deeds that is faulty."""
+    for deed in deeds:
+        if not row_fits(deed, len(machine)):
+            raise NoDeed(deed)
+
+
 def done(machine, stand, deed, *, most=MOST):
     """The stand behind a deed, and what is told: ("done",) or ("fault", cause)."""
-    if not row_fits(deed, len(machine)):
-        raise NoDeed(deed)
+    refuse_faulty(machine, [deed])
     run = Run(machine, stand)
     told = do_deed(run, deed, most)
     return (run.stand_now(), told)

@@ -18,7 +18,8 @@ class Run:
     """What changes while a deed is done in a stand.
 
     `where` is None while the hand is at it, else the (segment, row) that is next; `calls` has, for each
-    call that is not returned from yet, the ring that ran and the `where` that it goes back to.
+    call that is not returned from yet, the ring that ran and the `where` that it goes back to. `steps`
+    and `touches` have the rows that were done and the words that were read and written so far.
     """
 
     def __init__(self, machine, stand):
@@ -31,6 +32,8 @@ class Run:
         self.memory = [list(words) for words in memory]
         self.where = None
         self.calls = []
+        self.steps = []
+        self.touches = []
 
     def stand_now(self):
         """The stand that the hand is in, as things are now."""
@@ -60,6 +63,7 @@ class Run:
         e, number, place = self.spot(p, w)
         if not may_read(self.machine.segment(number), e):
             raise Fault("read")
+        self.touches.append((e, number, place, "r"))
         return (self.memory[number][place], e, number)
 
     def write(self, p, w, word):
@@ -67,6 +71,7 @@ class Run:
         e, number, place = self.spot(p, w)
         if not may_write(self.machine.segment(number), e):
             raise Fault("write")
+        self.touches.append((e, number, place, "w"))
         self.memory[number][place] = word
 
     def jump(self, j):
@@ -235,6 +240,7 @@ def act_on(run, most):
             raise Fault("long")
         ran += 1
         number, place = run.where
+        run.steps.append((run.ring, number, place, len(run.calls)))
         # Ahead of the row, which may tell another one, or keep this one in a call.
         run.where = (number, place + 1)
         act(run, row)

@@ -1,68 +1,16 @@
-"""Point 4, as far as machines and deeds go: many machines and rows of deeds, drawn by a fixed seed."""
+"""Point 4, as far as machines, deeds, traces, reaches and learning go: many machines and deeds, drawn by a fixed seed."""
 
-import random
 import unittest
 
 from ringgates.deeds import done, first
+from ringgates.errors import TooMany
+from ringgates.learning import aiming, alike, alike_holds, parting
 from ringgates.machines import Machine, allowed
-from tests.helper import num, ptr
+from ringgates.reaches import paper, paper_holds, way
+from ringgates.traces import keeps, trace
+from tests.helper import Draw, num
 
 CAUSES = ["pointer", "bounds", "read", "write", "kind", "run", "entry", "gate", "call", "deep", "row", "hand", "long"]
-
-
-class Draw:
-    """Machines and deeds by chance; small numbers, so that many of them fit one another."""
-
-    def __init__(self, seed):
-        self.random = random.Random(seed)
-
-    def word(self, many):
-        if self.random.random() < 0.5:
-            return num(self.random.randrange(4))
-        return ptr(self.random.randrange(8), self.random.randrange(many), self.random.randrange(3))
-
-    def row(self, many, aims):
-        pick = self.random.randrange
-        q, p, w = pick(4), pick(4), self.random.choice([-1, 0, 0, 0, 1])
-        choices = [
-            ("set", pick(4)), ("add", 1), ("load", p, w), ("store", p, w), ("fetch", q, p, w), ("keep", q, p, w),
-            ("move", q, p, w), ("call", p),
-        ]
-        if aims:
-            choices += [("aim", q, pick(many), pick(2))] * 3
-        return self.random.choice(choices)
-
-    def rows(self, many, aims):
-        """A few rows, now and then a jump among them, and mostly a return behind them."""
-        made = [self.row(many, aims) for place in range(self.random.randrange(1, 5))]
-        if self.random.random() < 0.2:
-            made.insert(0, (self.random.choice(["zero", "go"]), self.random.randrange(len(made) + 2)))
-        return tuple(made) + (("return",),) * (self.random.random() < 0.9)
-
-    def brackets(self):
-        drawn = sorted(self.random.randrange(8) for place in range(3))
-        return self.random.choice([tuple(drawn), (drawn[0], drawn[0], 7), (drawn[0], drawn[1], 7)])
-
-    def segment(self, many, ring, inner_aims):
-        brackets = self.brackets()
-        rights = self.random.choice(["", "r", "w", "x", "rw", "rw", "rx", "rx", "wx", "rwx", "rwx", "rwx"])
-        inner = "w" not in rights or ring > brackets[0]
-        rows = self.rows(many, inner_aims or not inner)
-        words = tuple(self.word(many) for place in range(self.random.randrange(1, 4)))
-        return (brackets, rights, self.random.randrange(len(rows) + 1), words, rows)
-
-    def machine(self, ring, inner_aims):
-        many = self.random.randrange(2, 6)
-        return Machine([self.segment(many, ring, inner_aims) for place in range(many)], base=4)
-
-    def deeds(self, machine):
-        """Rounds that aim all pointers first, since a fault takes them."""
-        many, pick = len(machine), self.random.randrange
-        made = []
-        for place in range(10):
-            made += [("aim", q, pick(many), pick(2)) for q in range(4)] + [("set", pick(4))]
-            made += [self.row(many, True), ("call", pick(4))]
-        return made + [self.random.choice([("zero", 0), ("go", 0), ("return",)])]
 
 
 def unhidden(machine, stand):
@@ -120,14 +68,8 @@ class Whole(unittest.TestCase):
     def test_nothing_is_learned_of_hidden_words_where_none_of_them_aims(self):
         hidden = 0
         for draw, machine, ring, deeds in self.drawn(range(400), False):
-            ways = allowed(machine, ring)
-            segments = [machine.segment(number) for number in range(len(machine))]
-            others = [
-                segment if way[0] else (*segment[:3], tuple(draw.word(len(machine)) for word in segment[3]), segment[4])
-                for segment, way in zip(segments, ways)
-            ]
-            hidden += others != segments
-            other = Machine(others, base=4)
+            other = self.other_hidden_words(draw, machine, ring)
+            hidden += other != machine
             stand, other_stand = first(machine, ring), first(other, ring)
             for deed in deeds:
                 stand, told = done(machine, stand, deed)
@@ -136,12 +78,67 @@ class Whole(unittest.TestCase):
                 self.assertEqual(unhidden(machine, stand), unhidden(other, other_stand))
         self.assertGreater(hidden, 100)
 
+    def test_each_touch_is_by_the_hands_right_where_no_inner_segment_aims(self):
+        touched = 0
+        for draw, machine, ring, deeds in self.drawn(range(300), False):
+            self.assertEqual(aiming(machine, ring), [])
+            stand = first(machine, ring)
+            for deed in deeds:
+                steps, touches = trace(machine, stand, deed)
+                self.assertIs(keeps(machine, ring, steps, touches), True)
+                self.assertTrue(all(touch[0] >= ring for touch in touches))
+                touched += bool(steps and touches)
+                stand = done(machine, stand, deed)[0]
+        self.assertGreater(touched, 50)
+
+    def answer(self, function, *arguments):
+        """What is told, or the class of the refusal."""
+        try:
+            return function(*arguments, limit=60)
+        except TooMany:
+            return TooMany
+
+    def test_no_way_to_a_hole_and_no_parting_where_no_inner_segment_aims(self):
+        holes = partings = 0
+        for draw, machine, ring, deeds in self.drawn(range(150), False):
+            ways = allowed(machine, ring)
+            start, menu = first(machine, ring), draw.random.sample(deeds, 5)
+            for number, words in enumerate(start[3]):
+                wish = (number, 0, draw.word(len(machine)))
+                if ways[number][1] or words[0] == wish[2]:
+                    continue
+                told = self.answer(paper, machine, start, menu, wish)
+                self.assertIsNotNone(told)
+                self.assertIn(self.answer(way, machine, start, menu, wish), (None, TooMany))
+                if told != TooMany:
+                    self.assertIs(paper_holds(machine, start, menu, wish, told), True)
+                    holes += 1
+            other = self.other_hidden_words(draw, machine, ring)
+            pair = (machine, other, start, first(other, ring), menu)
+            self.assertIn(self.answer(parting, *pair), (None, TooMany))
+            told = self.answer(alike, *pair)
+            if told != TooMany:
+                self.assertIs(alike_holds(*pair, told), True)
+                partings += 1
+        self.assertGreater(min(holes, partings), 50)
+
+    def other_hidden_words(self, draw, machine, ring):
+        """A machine that is unlike in the words of the segments hidden from a ring alone."""
+        segments = [machine.segment(number) for number in range(len(machine))]
+        return Machine([
+            segment if way[0] else (*segment[:3], tuple(draw.word(len(machine)) for word in segment[3]), segment[4])
+            for segment, way in zip(segments, allowed(machine, ring))
+        ], base=4)
+
     def test_an_inner_aim_can_be_a_hole(self):
         inner = ((1, 1, 1), "rw", 0, (num(3),), ())
         gate = ((1, 1, 7), "x", 1, (), (("aim", 1, 0, 0), ("store", 1, 0), ("return",)))
         machine = Machine([inner, gate])
         stand = first(machine, 5)
-        for deed in [("set", 8), ("aim", 0, 1, 0), ("call", 0)]:
+        menu = [("set", 8), ("aim", 0, 1, 0), ("call", 0)]
+        self.assertEqual(aiming(machine, 5), [1])
+        self.assertEqual(way(machine, stand, menu, (0, 0, num(8))), [0, 1, 2])
+        for deed in menu:
             stand, told = done(machine, stand, deed)
         self.assertEqual(stand[3][0], (num(8),))
 
