@@ -59,14 +59,16 @@ def may_call(segment, ring):
     return "x" in rights and brackets[1] < ring <= brackets[2]
 
 
+def ways_in(segment, ring):
+    """The truths (read, written, run, called) of a ring for one segment."""
+    return (may_read(segment, ring), may_write(segment, ring), may_run(segment, ring), may_call(segment, ring))
+
+
 def allowed(machine, ring):
     """For each segment the truths (read, written, run, called) of this ring."""
     if not is_ring(ring):
         raise NoRing(ring)
-    return [
-        (may_read(segment, ring), may_write(segment, ring), may_run(segment, ring), may_call(segment, ring))
-        for segment in machine.segments
-    ]
+    return [ways_in(segment, ring) for segment in machine.segments]
 
 
 def table(machine):

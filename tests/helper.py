@@ -100,3 +100,12 @@ class Draw:
             made += [("aim", q, pick(many), pick(2)) for q in range(4)] + [("set", pick(4))]
             made += [self.row(many, True), ("call", pick(4))]
         return made + [self.random.choice([("zero", 0), ("go", 0), ("return",)])]
+
+
+def drawn(seeds, inner_aims):
+    """For each seed: the draw, a machine, a ring for the hand, and deeds."""
+    for seed in seeds:
+        draw = Draw(seed)
+        ring = draw.random.randrange(8)
+        machine = draw.machine(ring, inner_aims)
+        yield draw, machine, ring, draw.deeds(machine)

@@ -1,4 +1,4 @@
-"""The interface: the names, arguments and defaults of what has been built."""
+"""The interface: the names, arguments and defaults of all that it lists."""
 
 import importlib
 import inspect
@@ -25,6 +25,17 @@ FUNCTIONS = {
         "alike_holds": "(one, other, stand, other_stand, menu, pairs)",
         "aiming": "(machine, ring)",
     },
+    "wishes": {
+        "brackets_for": "(reads, writes, runs, calls)",
+        "opening": "(reads, writes, runs, calls)",
+    },
+    "texts": {"show_machine": "(machine)", "show_deeds": "(deeds)"},
+    "readings": {"read_machine": "(text)", "read_deeds": "(text)"},
+}
+# Each class with its arguments, and its methods with theirs.
+CLASSES = {
+    "machines": ("Machine", "(segments, *, base=16)", {"segment": "(self, number)"}),
+    "desk": ("Desk", "()", {"say": "(self, row)"}),
 }
 NUMBERS = {"machines": {"BASE": 16}, "deeds": {"MOST": 100}, "reaches": {"LIMIT": 400}}
 
@@ -37,6 +48,20 @@ class Interface(unittest.TestCase):
                     function = getattr(importlib.import_module("ringgates." + module), name)
                     self.assertEqual(str(inspect.signature(function)), arguments)
                     self.assertEqual(function.__module__, "ringgates." + module)
+
+    def test_classes(self):
+        for module, (name, arguments, methods) in CLASSES.items():
+            with self.subTest(module, name=name):
+                made = getattr(importlib.import_module("ringgates." + module), name)
+                self.assertEqual(str(inspect.signature(made)), arguments)
+                self.assertEqual(made.__module__, "ringgates." + module)
+                for method, arguments in methods.items():
+                    self.assertEqual(str(inspect.signature(vars(made)[method])), arguments)
+
+    def test_refusals(self):
+        errors = importlib.import_module("ringgates.errors")
+        for name in "RingError NoMachine NoSegment NoDeed NoWish NoRing TooMany Unlike NoText NoRow".split():
+            self.assertEqual(str(inspect.signature(getattr(errors, name))), "(what)")
 
     def test_numbers(self):
         for module, numbers in NUMBERS.items():

@@ -115,6 +115,16 @@ class Language(unittest.TestCase):
                     attributes.add(node.attr)
         self.assertEqual(methods & attributes, set())
 
+    def test_every_attribute_that_is_assigned_is_one_of_a_class(self):
+        within, assigned = set(), set()
+        for path, text, tree in self.each():
+            for node in ast.walk(tree):
+                if isinstance(node, ast.Attribute) and isinstance(node.ctx, ast.Store):
+                    assigned.add(node.attr)
+                    if isinstance(node.value, ast.Name) and node.value.id == "self":
+                        within.add(node.attr)
+        self.assertEqual(assigned, within)
+
 
 if __name__ == "__main__":
     unittest.main()

@@ -43,6 +43,22 @@ class Readme(unittest.TestCase):
         self.assertIs(self.asked["alike_holds(machine, other, start, first(other, 5), menu, pairs)"], True)
         self.assertEqual(self.asked["aiming(machine, 5)"], [])
 
+    def test_wishes(self):
+        self.assertEqual(self.asked["brackets_for([0, 1, 2], [0], [], [])"], ((0, 2, 2), "rw"))
+        self.assertEqual(self.asked["opening([], [], [], [5])"], ((4, 4, 5), "x"))
+
+    def test_texts(self):
+        self.assertEqual(
+            self.asked["text"], "16; 0.0.5 rx 1 [7] (load 1 0, add 1, store 1 0, return); 5.5.5 rw 0 [3 5:1:0] ()"
+        )
+        self.assertIs(self.asked["read_machine(text) == machine"], True)
+        self.assertEqual(self.asked["show_deeds(menu)"], "aim 0 0 0, aim 1 1 0, call 0")
+        self.assertEqual(self.asked["read_deeds('set -3, return')"], [("set", -3), ("return",)])
+
+    def test_desk(self):
+        told = [value for text, value in self.asked.items() if text.startswith("desk.say")]
+        self.assertEqual(told, ["ok", "ok", "done done done", "4 5:0:0 5:1:0 - -", "4 5:1:0", "5:1:0r 5:1:0w", "ok"])
+
 
 if __name__ == "__main__":
     unittest.main()

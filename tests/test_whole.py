@@ -1,14 +1,16 @@
-"""Point 4, as far as machines, deeds, traces, reaches and learning go: many machines and deeds, drawn by a fixed seed."""
+"""Point 4, over the whole program: many machines and deeds, drawn by a fixed seed."""
 
 import unittest
 
 from ringgates.deeds import done, first
+from ringgates.desk import Desk
 from ringgates.errors import TooMany
 from ringgates.learning import aiming, alike, alike_holds, parting
 from ringgates.machines import Machine, allowed
 from ringgates.reaches import paper, paper_holds, way
+from ringgates.texts import show_deeds, show_machine
 from ringgates.traces import keeps, trace
-from tests.helper import Draw, num
+from tests.helper import drawn, num
 
 CAUSES = ["pointer", "bounds", "read", "write", "kind", "run", "entry", "gate", "call", "deep", "row", "hand", "long"]
 
@@ -20,16 +22,9 @@ def unhidden(machine, stand):
 
 
 class Whole(unittest.TestCase):
-    def drawn(self, seeds, inner_aims):
-        for seed in seeds:
-            draw = Draw(seed)
-            ring = draw.random.randrange(8)
-            machine = draw.machine(ring, inner_aims)
-            yield draw, machine, ring, draw.deeds(machine)
-
     def test_what_each_stand_is_like(self):
         met = set()
-        for draw, machine, ring, deeds in self.drawn(range(400), True):
+        for draw, machine, ring, deeds in drawn(range(400), True):
             stand = first(machine, ring)
             for deed in deeds:
                 new, told = done(machine, stand, deed)
@@ -54,7 +49,7 @@ class Whole(unittest.TestCase):
 
     def test_no_word_of_an_inner_segment_changes_where_none_of_them_aims(self):
         changed = 0
-        for draw, machine, ring, deeds in self.drawn(range(400), False):
+        for draw, machine, ring, deeds in drawn(range(400), False):
             start = stand = first(machine, ring)
             ways = allowed(machine, ring)
             for deed in deeds:
@@ -67,7 +62,7 @@ class Whole(unittest.TestCase):
 
     def test_nothing_is_learned_of_hidden_words_where_none_of_them_aims(self):
         hidden = 0
-        for draw, machine, ring, deeds in self.drawn(range(400), False):
+        for draw, machine, ring, deeds in drawn(range(400), False):
             other = self.other_hidden_words(draw, machine, ring)
             hidden += other != machine
             stand, other_stand = first(machine, ring), first(other, ring)
@@ -80,7 +75,7 @@ class Whole(unittest.TestCase):
 
     def test_each_touch_is_by_the_hands_right_where_no_inner_segment_aims(self):
         touched = 0
-        for draw, machine, ring, deeds in self.drawn(range(300), False):
+        for draw, machine, ring, deeds in drawn(range(300), False):
             self.assertEqual(aiming(machine, ring), [])
             stand = first(machine, ring)
             for deed in deeds:
@@ -100,7 +95,7 @@ class Whole(unittest.TestCase):
 
     def test_no_way_to_a_hole_and_no_parting_where_no_inner_segment_aims(self):
         holes = partings = 0
-        for draw, machine, ring, deeds in self.drawn(range(150), False):
+        for draw, machine, ring, deeds in drawn(range(150), False):
             ways = allowed(machine, ring)
             start, menu = first(machine, ring), draw.random.sample(deeds, 5)
             for number, words in enumerate(start[3]):
@@ -121,6 +116,48 @@ class Whole(unittest.TestCase):
                 self.assertIs(alike_holds(*pair, told), True)
                 partings += 1
         self.assertGreater(min(holes, partings), 50)
+
+    def desk(self, machine, ring):
+        desk = Desk()
+        self.assertEqual(desk.say("machine " + show_machine(machine)), "ok")
+        self.assertEqual(desk.say(f"sit {ring}"), "ok")
+        return desk
+
+    def rows_at_a_desk(self, draw, deeds):
+        """Deeds, some of them taken back, and questions between."""
+        rows = []
+        for deed in deeds:
+            rows += ["touch " + show_deeds([deed]), "do " + show_deeds([deed])]
+            rows += ["back"] * (draw.random.random() < 0.1)
+        return rows
+
+    def test_at_a_desk_nothing_is_learned_and_nothing_inner_changes_where_none_of_them_aims(self):
+        hidden = inner = 0
+        for draw, machine, ring, deeds in drawn(range(120), False):
+            other = self.other_hidden_words(draw, machine, ring)
+            hidden += other != machine
+            asked = ["show", "table", "aims"] + [f"see {number}" for number in range(len(machine))]
+            one, two = self.desk(machine, ring), self.desk(other, ring)
+            self.assertEqual(one.say("aims"), "none")
+            start = [one.say(row) for row in asked]
+            for row in self.rows_at_a_desk(draw, deeds):
+                self.assertEqual(one.say(row), two.say(row))
+                told = [one.say(row) for row in asked]
+                self.assertEqual(told, [two.say(row) for row in asked])
+                for way, before, now in zip(allowed(machine, ring), start[3:], told[3:]):
+                    if not way[1]:
+                        self.assertEqual(now, before)
+                        inner += now != "hidden"
+        self.assertGreater(min(hidden, inner), 40)
+
+    def test_at_a_desk_an_inner_aim_can_be_a_hole(self):
+        desk = Desk()
+        rows = [
+            "machine 16; 1.1.1 rw 0 [3] (); 1.1.7 x 1 [] (aim 1 0 0, load 1 0, return)", "aims", "do aim 0 1 0, call 0",
+            "show", "back", "show",
+        ]
+        self.assertEqual([desk.say(row) for row in rows], [
+            "ok", "1", "done done", "3 7:1:0 7:0:0 - -", "ok", "0 7:1:0 - - -"])
 
     def other_hidden_words(self, draw, machine, ring):
         """A machine that is unlike in the words of the segments hidden from a ring alone."""
