@@ -103,6 +103,11 @@ class MachineAndSit(Refusals):
         self.assertEqual(answers(desk, ["machine " + TEXT, "show", "sit 5", "see 1"]), [
             "ok", "0 - - - -", "ok", "3 5:1:0"])
 
+    def test_a_machine_takes_the_hand_back_to_ring_seven(self):
+        desk = desk_of(ring=3)
+        self.assertEqual(answers(desk, ["machine " + TEXT, "see 1", "do aim 0 1 0", "show"]), [
+            "ok", "hidden", "done", "0 7:1:0 - - -"])
+
     def test_machine_and_sit_leave_no_deed(self):
         desk = desk_of()
         for row in ["sit 5", "sit 0", "machine " + TEXT]:
